@@ -98,12 +98,12 @@ func TestDigitsAreTheCallers(t *testing.T) {
 		first, _ := signet.Digits(c, m)
 		want := slices.Clone(first)
 		held, _ := signet.Digits(c, m)
-		spoil(first)
+		spoil(first, -7)
 		again, e := signet.Digits(c, m)
 		if e != api.OK || !slices.Equal(again, want) || !slices.Equal(held, want) {
 			t.Fatalf("P2: Digits(%v, %x): %v, then %v, where %v was spoiled", c, m, held, again, want)
 		}
-		spoil(held)
+		spoil(held, -7)
 		if !slices.Equal(again, want) {
 			t.Fatalf("P2: Digits(%v, %x): a list changed by another: %v, want %v", c, m, again, want)
 		}
@@ -111,13 +111,13 @@ func TestDigitsAreTheCallers(t *testing.T) {
 }
 
 // spoil writes into a list, into its spare room and behind its end.
-func spoil(list []int) {
+func spoil[T any](list []T, x T) {
 	whole := list[:cap(list)]
 	for i := range whole {
-		whole[i] = -7
+		whole[i] = x
 	}
-	_ = append(list, -8, -9)
-	_ = append(list[:0], -10)
+	_ = append(list, x, x)
+	_ = append(list[:0], x)
 }
 
 func TestAnswersHangOnWhatIsGiven(t *testing.T) {
@@ -143,5 +143,68 @@ func TestAnswersHangOnWhatIsGiven(t *testing.T) {
 	}
 	if again, _ := signet.Digits(setA, "wxyz"); !slices.Equal(again, l) {
 		t.Errorf("P2: Digits: %v, then %v", l, again)
+	}
+}
+
+func TestTreeCallsOfWrongSets(t *testing.T) {
+	for _, c := range append(wrongSets(), api.Set{}) {
+		for _, right := range []bool{true, false} {
+			seeds, at, x, list := api.Seeds{}, api.Place{Layer: -1, Tree: math.MaxInt}, "", []string(nil)
+			if right {
+				seeds, at, x, list = seedsA, api.Place{}, "wxyz", someEnds(setA)
+			}
+			y, e := signet.Start(c, seeds, at)
+			meetText(t, "P1, P7: Start of a wrong set", y, e, "", api.ErrSet)
+			y, e = signet.Chain(c, x, at, 0, 1, x)
+			meetText(t, "P1, P7: Chain of a wrong set", y, e, "", api.ErrSet)
+			y, e = signet.Fold(c, x, at, list)
+			meetText(t, "P1, P8: Fold of a wrong set", y, e, "", api.ErrSet)
+			y, e = signet.NodeOf(c, seeds, at, 0, 0)
+			meetText(t, "P1, P9: NodeOf of a wrong set", y, e, "", api.ErrSet)
+			y, e = signet.Climb(c, x, at, x, list)
+			meetText(t, "P1, P10: Climb of a wrong set", y, e, "", api.ErrSet)
+			if w, e := signet.NewWalk(c, seeds, at); w != nil || e != api.ErrSet {
+				t.Fatalf("P1, P11: NewWalk of a wrong set: %v, %d", w, e)
+			}
+		}
+	}
+}
+
+func TestTreeCallsAtAllNumbers(t *testing.T) {
+	for _, v := range edges {
+		for _, u := range edges {
+			c := api.Set{Kind: v, Bytes: u, Wide: v, Tall: u, Layers: v}
+			for _, c := range []api.Set{c, setB} {
+				at := api.Place{Layer: v, Tree: u, Leaf: v, Chain: u}
+				signet.Start(c, seedsB, at)
+				signet.Chain(c, seedsB.Public, at, u, v, "12345678")
+				signet.Fold(c, seedsB.Public, at, someEnds(setB))
+				signet.NodeOf(c, seedsB, at, u, v)
+				signet.NodeOf(c, seedsB, api.Place{Layer: 1}, u, v)
+				signet.Climb(c, seedsB.Public, at, "12345678", []string{"12345678"})
+				signet.NewWalk(c, seedsB, at)
+			}
+		}
+	}
+}
+
+// TestListsHandedInAreNotWrittenInto: neither in the list nor in its spare room.
+func TestListsHandedInAreNotWrittenInto(t *testing.T) {
+	for _, c := range rightSets() {
+		ends := append(someEnds(c), someEnds(c)...)
+		was := slices.Clone(ends)
+		chains := len(ends) / 2
+		x, _ := signet.Fold(c, seedsOf(c).Public, api.Place{}, ends[:chains])
+		y, _ := signet.Climb(c, seedsOf(c).Public, api.Place{Leaf: 1}, someText(c.Bytes), ends[:c.Tall])
+		if !slices.Equal(ends, was) {
+			t.Fatalf("P2: %v: Fold or Climb writes into a list: %x, was %x", c, ends, was)
+		}
+		spoil(ends, "spoiled")
+		if again, _ := signet.Fold(c, seedsOf(c).Public, api.Place{}, was[:chains]); again != x {
+			t.Fatalf("P2: %v: Fold: %x, then %x", c, x, again)
+		}
+		if again, _ := signet.Climb(c, seedsOf(c).Public, api.Place{Leaf: 1}, someText(c.Bytes), was[:c.Tall]); again != y {
+			t.Fatalf("P2: %v: Climb: %x, then %x", c, y, again)
+		}
 	}
 }

@@ -5,6 +5,8 @@ import (
 	"signet/api"
 	"signet/digest"
 	"signet/sets"
+	"signet/trees"
+	"signet/walks"
 )
 
 // Digest tells the digest of a text (P3).
@@ -23,45 +25,55 @@ func Measure(c api.Set) (api.Sizes, api.Errno) { return sets.Measure(c) }
 func Digits(c api.Set, m string) ([]int, api.Errno) { return sets.Digits(c, m) }
 
 // Start tells where a chain begins (P7).
-func Start(c api.Set, seeds api.Seeds, at api.Place) (string, api.Errno) { return "", api.OK }
+func Start(c api.Set, seeds api.Seeds, at api.Place) (string, api.Errno) {
+	return trees.Start(c, seeds, at)
+}
 
 // Chain goes along a chain (P7).
 func Chain(c api.Set, public string, at api.Place, from int, to int, x string) (string, api.Errno) {
-	return "", api.OK
+	return trees.Chain(c, public, at, from, to, x)
 }
 
 // Fold makes a leaf's value out of the ends of its chains (P8).
 func Fold(c api.Set, public string, at api.Place, ends []string) (string, api.Errno) {
-	return "", api.OK
+	return trees.Fold(c, public, at, ends)
 }
 
 // NodeOf tells the value of a node of a tree (P9).
 func NodeOf(c api.Set, seeds api.Seeds, at api.Place, height int, number int) (string, api.Errno) {
-	return "", api.OK
+	return trees.NodeOf(c, seeds, at, height, number)
 }
 
 // Climb goes from a leaf up to the root (P10).
 func Climb(c api.Set, public string, at api.Place, x string, path []string) (string, api.Errno) {
-	return "", api.OK
+	return trees.Climb(c, public, at, x, path)
 }
 
 // Walk goes from leaf to leaf of a tree.
-type Walk struct{}
+type Walk struct {
+	steps *walks.Walk
+}
 
 // NewWalk begins at the first leaf (P11).
-func NewWalk(c api.Set, seeds api.Seeds, at api.Place) (*Walk, api.Errno) { return nil, api.OK }
+func NewWalk(c api.Set, seeds api.Seeds, at api.Place) (*Walk, api.Errno) {
+	t, e := trees.New(c, seeds, at)
+	if e != api.OK {
+		return nil, e
+	}
+	return &Walk{steps: walks.New(c.Tall, t.Leaf, t.Join)}, api.OK
+}
 
 // At tells the leaf's number (P11).
-func (w *Walk) At() int { return 0 }
+func (w *Walk) At() int { return w.steps.At() }
 
 // Path tells the leaf's path (P11).
-func (w *Walk) Path() []string { return nil }
+func (w *Walk) Path() []string { return w.steps.Path() }
 
 // Stack tells what the walk holds for the paths to come (P12).
-func (w *Walk) Stack(h int) ([]api.Node, api.Errno) { return nil, api.OK }
+func (w *Walk) Stack(h int) ([]api.Node, api.Errno) { return w.steps.Stack(h) }
 
 // Next goes to the next leaf (P12).
-func (w *Walk) Next() api.Errno { return api.OK }
+func (w *Walk) Next() api.Errno { return w.steps.Next() }
 
 // Disk is a disk.
 type Disk struct{}

@@ -1,0 +1,57 @@
+package trees
+
+import (
+	"signet/api"
+	"signet/sets"
+)
+
+// Tree is one tree of a key, for those who have the key's seeds. It holds no node: each is made when it is asked for.
+type Tree struct {
+	set    api.Set
+	seeds  api.Seeds
+	at     api.Place
+	chains int
+}
+
+// New tells of the tree at a place, if the set, the seeds and the place are right.
+func New(c api.Set, seeds api.Seeds, at api.Place) (Tree, api.Errno) {
+	z, e := sets.Measure(c)
+	if e != api.OK {
+		return Tree{}, e
+	}
+	if !sets.SeedsRight(c, seeds) || !sets.IsTree(c, at) {
+		return Tree{}, api.ErrArg
+	}
+	return Tree{set: c, seeds: seeds, at: at, chains: z.Chains}, api.OK
+}
+
+// Leaf makes the leaf of that number.
+func (t Tree) Leaf(number int) string {
+	at := t.at
+	at.Leaf = number
+	ends := make([]string, t.chains)
+	for i := range ends {
+		at.Chain = i
+		first := spot{t.set, t.seeds.Secret, at}.start()
+		ends[i] = spot{t.set, t.seeds.Public, at}.chain(0, t.set.Wide-1, first)
+	}
+	return spot{t.set, t.seeds.Public, at}.fold(ends)
+}
+
+// Join makes the node of that height and number out of the two below it.
+func (t Tree) Join(height int, number int, first string, second string) string {
+	return spot{t.set, t.seeds.Public, t.at}.join(height, number, first, second)
+}
+
+// Node makes the node of that height and number.
+func (t Tree) Node(height int, number int) string {
+	if height == 0 {
+		return t.Leaf(number)
+	}
+	return t.Join(height, number, t.Node(height-1, 2*number), t.Node(height-1, 2*number+1))
+}
+
+// has asks for the height first: by a wrong one there is no telling how many nodes there are.
+func (t Tree) has(height int, number int) bool {
+	return 0 <= height && height <= t.set.Tall && 0 <= number && number < sets.Leaves(t.set)>>height
+}
