@@ -21,3 +21,12 @@ func Number(v int, k int) string {
 	}
 	return string(text)
 }
+
+// NumberIn reads back the whole number that Number has laid into a text.
+func NumberIn(text string) int {
+	v := 0
+	for i := range len(text) {
+		v = v<<8 | int(text[i])
+	}
+	return v
+}

@@ -4,6 +4,8 @@ package signet
 import (
 	"signet/api"
 	"signet/digest"
+	"signet/disks"
+	"signet/records"
 	"signet/sets"
 	"signet/trees"
 	"signet/walks"
@@ -76,34 +78,42 @@ func (w *Walk) Stack(h int) ([]api.Node, api.Errno) { return w.steps.Stack(h) }
 func (w *Walk) Next() api.Errno { return w.steps.Next() }
 
 // Disk is a disk.
-type Disk struct{}
+type Disk struct {
+	store *disks.Disk
+}
 
 // NewDisk makes a disk (P13).
-func NewDisk(n int) (*Disk, api.Errno) { return nil, api.OK }
+func NewDisk(n int) (*Disk, api.Errno) {
+	store, e := disks.New(n)
+	if e != api.OK {
+		return nil, e
+	}
+	return &Disk{store: store}, api.OK
+}
 
 // Read tells what a sector holds (P14).
-func (d *Disk) Read(i int) (string, api.Errno) { return "", api.OK }
+func (d *Disk) Read(i int) (string, api.Errno) { return d.store.Read(i) }
 
 // Write lays a text into a sector; it is pending then (P14).
-func (d *Disk) Write(i int, s string) api.Errno { return api.OK }
+func (d *Disk) Write(i int, s string) api.Errno { return d.store.Write(i, s) }
 
 // Sync makes last what is pending (P14).
-func (d *Disk) Sync() api.Errno { return api.OK }
+func (d *Disk) Sync() api.Errno { return d.store.Sync() }
 
 // Trouble says which turn of the disk is to fail (P15).
-func (d *Disk) Trouble(k int) api.Errno { return api.OK }
+func (d *Disk) Trouble(k int) api.Errno { return d.store.Trouble(k) }
 
 // Crash keeps some of what is pending and loses the rest (P16).
-func (d *Disk) Crash(keep []bool) {}
+func (d *Disk) Crash(keep []bool) { d.store.Crash(keep) }
 
 // Count tells what the disk has done (P14).
-func (d *Disk) Count() api.Counts { return api.Counts{} }
+func (d *Disk) Count() api.Counts { return d.store.Count() }
 
 // Seal makes a sector's text out of a record (P17).
-func Seal(r api.Record) (string, api.Errno) { return "", api.OK }
+func Seal(r api.Record) (string, api.Errno) { return records.Seal(r) }
 
 // Unseal reads a record out of a sector's text (P17).
-func Unseal(s string) (api.Record, api.Errno) { return api.Record{}, api.OK }
+func Unseal(s string) (api.Record, api.Errno) { return records.Unseal(s) }
 
 // Signer signs by one key.
 type Signer struct{}
