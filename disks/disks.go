@@ -92,7 +92,7 @@ func (d *Disk) Crash(keep []bool) {
 	}
 	d.pending = nil
 	d.trouble = 0
-	d.term++
+	d.NewTerm()
 }
 
 // Count tells what the disk has done.
@@ -100,9 +100,19 @@ func (d *Disk) Count() api.Counts {
 	return api.Counts{Writes: d.writes, Syncs: d.syncs, Pending: len(d.pending)}
 }
 
+// Sectors tells how many there are.
+func (d *Disk) Sectors() int {
+	return len(d.durable)
+}
+
 // Term tells the disk's signers apart: one that began in another term than this is over. The disk need not know them for that.
 func (d *Disk) Term() int {
 	return d.term
+}
+
+// NewTerm leaves all signers over that are there.
+func (d *Disk) NewTerm() {
+	d.term++
 }
 
 func (d *Disk) has(i int) bool {

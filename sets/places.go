@@ -39,6 +39,18 @@ func isLeafOf(c api.Set, at api.Place) bool {
 	return within(at.Layer, c.Layers) && within(at.Tree, trees(c, at.Layer)) && within(at.Leaf, Leaves(c))
 }
 
+// IsIndex tells whether the set has this index.
+func IsIndex(c api.Set, index int) bool {
+	z, e := Measure(c)
+	return e == api.OK && within(index, z.Total)
+}
+
+// Signing tells the leaf that signs in a layer under an index. The leaves of a layer, counted through all its trees, are the trees of the layer below.
+func Signing(c api.Set, index int, layer int) api.Place {
+	number := index >> (c.Tall * layer)
+	return api.Place{Layer: layer, Tree: number / Leaves(c), Leaf: number % Leaves(c)}
+}
+
 // Leaves tells how many leaves a tree has.
 func Leaves(c api.Set) int {
 	return 1 << c.Tall

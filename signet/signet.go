@@ -7,6 +7,8 @@ import (
 	"signet/disks"
 	"signet/records"
 	"signet/sets"
+	"signet/signatures"
+	"signet/signers"
 	"signet/trees"
 	"signet/walks"
 )
@@ -116,31 +118,52 @@ func Seal(r api.Record) (string, api.Errno) { return records.Seal(r) }
 func Unseal(s string) (api.Record, api.Errno) { return records.Unseal(s) }
 
 // Signer signs by one key.
-type Signer struct{}
+type Signer struct {
+	hand *signers.Signer
+}
 
 // Make makes a key's signer over a disk on which there is none yet (P18).
-func Make(d *Disk, c api.Set, seeds api.Seeds, batch int) (*Signer, api.Errno) { return nil, api.OK }
+func Make(d *Disk, c api.Set, seeds api.Seeds, batch int) (*Signer, api.Errno) {
+	return given(signers.Make(d.below(), c, seeds, batch))
+}
 
 // Open makes a key's signer anew, from what the disk holds (P19).
-func Open(d *Disk, c api.Set, seeds api.Seeds, batch int) (*Signer, api.Errno) { return nil, api.OK }
+func Open(d *Disk, c api.Set, seeds api.Seeds, batch int) (*Signer, api.Errno) {
+	return given(signers.Open(d.below(), c, seeds, batch))
+}
+
+// below lets a nil disk through, which Make and Open are to refuse only behind a wrong set.
+func (d *Disk) below() *disks.Disk {
+	if d == nil {
+		return nil
+	}
+	return d.store
+}
+
+func given(hand *signers.Signer, e api.Errno) (*Signer, api.Errno) {
+	if e != api.OK {
+		return nil, e
+	}
+	return &Signer{hand: hand}, api.OK
+}
 
 // Key tells the key by which signatures are verified (P20).
-func (s *Signer) Key() string { return "" }
+func (s *Signer) Key() string { return s.hand.Key() }
 
 // State tells how far the signer is (P20).
-func (s *Signer) State() api.State { return api.State{} }
+func (s *Signer) State() api.State { return s.hand.State() }
 
 // Reserve reserves indices ahead (P21).
-func (s *Signer) Reserve(m int) (int, api.Errno) { return 0, api.OK }
+func (s *Signer) Reserve(m int) (int, api.Errno) { return s.hand.Reserve(m) }
 
 // Sign signs a message (P22).
-func (s *Signer) Sign(msg string) (string, api.Errno) { return "", api.OK }
+func (s *Signer) Sign(msg string) (string, api.Errno) { return s.hand.Sign(msg) }
 
 // Split reads a signature's parts (P23).
-func Split(c api.Set, sig string) (api.Parsed, api.Errno) { return api.Parsed{}, api.OK }
+func Split(c api.Set, sig string) (api.Parsed, api.Errno) { return signatures.Split(c, sig) }
 
 // Join lays a signature's parts together (P23).
-func Join(c api.Set, p api.Parsed) (string, api.Errno) { return "", api.OK }
+func Join(c api.Set, p api.Parsed) (string, api.Errno) { return signatures.Join(c, p) }
 
 // Verify tells whether a signature is a message's, by a key (P24).
-func Verify(key string, msg string, sig string) api.Errno { return api.OK }
+func Verify(key string, msg string, sig string) api.Errno { return signatures.Verify(key, msg, sig) }

@@ -1,6 +1,8 @@
 package trees
 
 import (
+	"slices"
+
 	"signet/api"
 	"signet/sets"
 )
@@ -27,15 +29,38 @@ func New(c api.Set, seeds api.Seeds, at api.Place) (Tree, api.Errno) {
 
 // Leaf makes the leaf of that number.
 func (t Tree) Leaf(number int) string {
-	at := t.at
-	at.Leaf = number
-	ends := make([]string, t.chains)
-	for i := range ends {
-		at.Chain = i
-		first := spot{t.set, t.seeds.Secret, at}.start()
-		ends[i] = spot{t.set, t.seeds.Public, at}.chain(0, t.set.Wide-1, first)
+	all := slices.Repeat([]int{t.set.Wide - 1}, t.chains)
+	return t.spotOf(t.seeds.Public, number, 0).fold(t.Reveal(number, all))
+}
+
+// Reveal goes along each chain of a leaf as far as its digit says. Whoever sees a value can go on from there, but not back.
+func (t Tree) Reveal(leaf int, digits []int) []string {
+	values := make([]string, len(digits))
+	for i, digit := range digits {
+		first := t.spotOf(t.seeds.Secret, leaf, i).start()
+		values[i] = t.spotOf(t.seeds.Public, leaf, i).chain(0, digit, first)
 	}
-	return spot{t.set, t.seeds.Public, at}.fold(ends)
+	return values
+}
+
+// Path makes the nodes that lie beside the way from a leaf up to the root.
+func (t Tree) Path(leaf int) []string {
+	path := make([]string, t.set.Tall)
+	for h := range path {
+		path[h] = t.Node(h, leaf>>h^1)
+	}
+	return path
+}
+
+// Root makes the node above all others.
+func (t Tree) Root() string {
+	return t.Node(t.set.Tall, 0)
+}
+
+func (t Tree) spotOf(seed string, leaf int, chain int) spot {
+	at := t.at
+	at.Leaf, at.Chain = leaf, chain
+	return spot{t.set, seed, at}
 }
 
 // Join makes the node of that height and number out of the two below it.

@@ -61,3 +61,14 @@ func NodeOf(c api.Set, seeds api.Seeds, at api.Place, height int, number int) (s
 	}
 	return t.Node(height, number), api.OK
 }
+
+// RootBy goes on where Reveal has stopped, and from there up to the root: by these digits, for the leaf at a place that is right. The values and the path have their lengths.
+func RootBy(c api.Set, public string, at api.Place, digits []int, values []string, path []string) string {
+	leaf := spot{c, public, at}
+	ends := make([]string, len(values))
+	for i, x := range values {
+		at.Chain = i
+		ends[i] = spot{c, public, at}.chain(digits[i], c.Wide-1, x)
+	}
+	return leaf.climb(leaf.fold(ends), path)
+}
